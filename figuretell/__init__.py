@@ -1,0 +1,1 @@
+"""Figuretell: numbers told by their figures."""

@@ -1,0 +1,68 @@
+"""Machines, tuples (wide, rows, signs), that read rows of figures and tell signs."""
+
+from figuretell.figures import figures, is_whole_within
+
+MOST_WIDE = 1000
+MOST_SIGN = 999999
+
+
+def is_machine(thing):
+    if not isinstance(thing, tuple) or len(thing) != 3:
+        return False
+    wide = thing[0]
+    rows = thing[1]
+    signs = thing[2]
+    if not is_whole_within(wide, 1, MOST_WIDE):
+        return False
+    if not isinstance(rows, tuple) or len(rows) == 0:
+        return False
+    for row in rows:
+        if not is_tuple_of(row, wide, len(rows) - 1):
+            return False
+    return is_tuple_of(signs, len(rows), MOST_SIGN)
+
+
+def is_tuple_of(thing, many, most):
+    if not isinstance(thing, tuple) or len(thing) != many:
+        return False
+    return all([is_whole_within(part, 0, most) for part in thing])
+
+
+def room(machine, row, start=0):
+    rows = machine[1]
+    here = start
+    for figure in row:
+        here = rows[here][figure]
+    return here
+
+
+def told(machine, row):
+    return machine[2][room(machine, row)]
+
+
+def sign_at(machine, number):
+    return told(machine, figures(number, machine[0]))
+
+
+def sign_down(machine, number):
+    return told(machine, figures(number, machine[0])[::-1])
+
+
+def is_steady(machine):
+    rows = machine[1]
+    signs = machine[2]
+    # A room to which no row leads is told of no row, so it can't make a machine unsteady.
+    return all([signs[rows[here][0]] == signs[here] for here in reached_rooms(machine)])
+
+
+def reached_rooms(machine):
+    rows = machine[1]
+    reached = {0: True}
+    waiting = [0]
+    while waiting:
+        here = waiting.pop()
+        for there in rows[here]:
+            if there not in reached:
+                reached[there] = True
+                waiting.append(there)
+    return list(reached)
