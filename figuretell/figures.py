@@ -27,6 +27,13 @@ def need_row(thing, called):
         raise NoFigures(f"{called} is no tuple and no list")
 
 
+def power_of(base, times):
+    power = 1
+    for turn in range(times):
+        power = power * base
+    return power
+
+
 def figures(number, wide=10):
     need_whole(number, 0, "number")
     need_whole(wide, 2, "wide")

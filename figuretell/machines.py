@@ -56,13 +56,16 @@ def is_steady(machine):
 
 
 def reached_rooms(machine):
+    # Level by level, by the lower figures first: so the rooms stand in the order of the first rows that lead there.
     rows = machine[1]
     reached = {0: True}
-    waiting = [0]
-    while waiting:
-        here = waiting.pop()
-        for there in rows[here]:
-            if there not in reached:
-                reached[there] = True
-                waiting.append(there)
+    level = [0]
+    while level:
+        fresh = []
+        for here in level:
+            for there in rows[here]:
+                if there not in reached:
+                    reached[there] = True
+                    fresh.append(there)
+        level = fresh
     return list(reached)

@@ -4,6 +4,8 @@ import fractions
 import itertools
 
 from figuretell import errors
+from figuretell.machines import is_machine
+from samples import apart_at, plain_room, plain_told
 
 REFUSALS = (
     errors.NoFigures,
@@ -58,6 +60,23 @@ class Asking:
         self.assertIsInstance(error, errors.FigureError)
         self.assertEqual([kind], [refusal for refusal in REFUSALS if isinstance(error, refusal)])
 
+    def too_great(self, handed, function, *arguments, **named):
+        self.refused(errors.TooGreat, function, *arguments, **named)
+        with self.assertRaises(errors.TooGreat) as caught:
+            function(*arguments, **named)
+        self.whole(handed, caught.exception.most)
+
+    def just_most(self, most, function, *arguments):
+        """With that most there is an answer, the same as with a greater one; with one less it is refused."""
+        answer = function(*arguments, most)
+        self.assertEqual(answer, function(*arguments, most=most + 1))
+        self.assertEqual(answer, function(*arguments, most=1000000))
+        if most > 1:
+            self.too_great(most - 1, function, *arguments, most - 1)
+            self.too_great(most - 1, function, *arguments, most=most - 1)
+            self.too_great(1, function, *arguments, 1)
+        return answer
+
     def whole(self, expected, answer):
         """As assertEqual, but True is not 1 here."""
         self.assertIs(int, type(answer))
@@ -68,3 +87,30 @@ class Asking:
         self.assertIs(tuple, type(answer))
         self.assertEqual([int] * len(answer), [type(part) for part in answer])
         self.assertEqual(expected, answer)
+
+    def is_a_machine(self, wide, answer):
+        self.assertTrue(is_machine(answer), answer)
+        self.assertEqual(wide, answer[0])
+        self.assertEqual({int}, {type(there) for row in answer[1] for there in row} | {type(s) for s in answer[2]})
+
+    def in_lead_order(self, answer):
+        """Each room of the machine has a lead, and they are numbered in the order of these."""
+        wide, rows, signs = answer
+        found = [()]
+        for lead in found:
+            for figure in range(wide):
+                if plain_room(answer, lead + (figure,)) == len(found):
+                    found.append(lead + (figure,))
+                self.assertLess(plain_room(answer, lead + (figure,)), len(found), answer)
+        self.assertEqual(len(rows), len(found), answer)
+
+    def is_least(self, wide, answer):
+        self.is_a_machine(wide, answer)
+        self.in_lead_order(answer)
+        rooms = len(answer[1])
+        self.assertEqual(rooms * (rooms - 1), len(apart_at(answer, rooms)), answer)
+
+    def tells(self, answer, longest, expected):
+        """Of each row that is no longer than longest the machine tells what the function expected does."""
+        for row in all_rows(answer[0], longest):
+            self.assertEqual(expected(row), plain_told(answer, row), (answer, row))

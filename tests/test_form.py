@@ -89,6 +89,75 @@ class FormTest(unittest.TestCase):
             if isinstance(node, ast.Call) and isinstance(node.func, ast.Attribute):
                 self.assertIn(node.func.attr, OWN_METHODS | own, at)
 
+    def test_no_local_is_called_like_a_class_or_an_import_of_its_file(self):
+        for name, text in sources():
+            tree = ast.parse(text)
+            taken = {node.name for node in ast.walk(tree) if isinstance(node, ast.ClassDef)}
+            for node in ast.walk(tree):
+                if isinstance(node, ast.ImportFrom):
+                    taken.update(alias.name for alias in node.names)
+            for node in ast.walk(tree):
+                if isinstance(node, ast.arg):
+                    self.assertNotIn(node.arg, taken, (name, node.lineno))
+                elif isinstance(node, ast.Name) and isinstance(node.ctx, ast.Store):
+                    self.assertNotIn(node.id, taken, (name, node.lineno))
+
+    def test_names_are_bound_once_at_the_top(self):
+        for name, text in sources():
+            bound = []
+            for node in ast.parse(text).body:
+                if isinstance(node, ast.ImportFrom):
+                    bound.extend(alias.asname or alias.name for alias in node.names)
+                elif isinstance(node, (ast.FunctionDef, ast.ClassDef)):
+                    bound.append(node.name)
+                elif isinstance(node, ast.Assign):
+                    bound.extend(target.id for target in node.targets)
+            self.assertEqual(sorted(set(bound)), sorted(bound), name)
+
+    def test_no_two_files_draw_from_one_another(self):
+        draws = {}
+        for name, text in sources():
+            nodes = [node for node in ast.walk(ast.parse(text)) if isinstance(node, ast.ImportFrom)]
+            draws[name[:-3]] = {node.module.split(".")[1] for node in nodes}
+        while draws:
+            free = [name for name, drawn in draws.items() if not drawn & set(draws)]
+            self.assertNotEqual([], free, draws)
+            for name in free:
+                del draws[name]
+
+    def test_no_name_is_a_method_and_a_value(self):
+        methods = set()
+        values = set()
+        for at, node in parts():
+            if isinstance(node, ast.ClassDef):
+                methods.update(part.name for part in node.body if isinstance(part, ast.FunctionDef))
+            elif isinstance(node, ast.Attribute) and isinstance(node.ctx, ast.Store):
+                values.add(node.attr)
+        self.assertEqual(set(), methods & values)
+        pythons = set().union(*[dir(kind) for kind in (str, int, list, dict, set, bytes)])
+        self.assertEqual(set(), (methods | values) & pythons - {"__init__"})
+
+    def test_sets_are_not_kept(self):
+        for name, text in sources():
+            tree = ast.parse(text)
+            straight = set()
+            for node in ast.walk(tree):
+                if isinstance(node, ast.Call) and isinstance(node.func, ast.Name) and node.func.id in ("sorted", "len"):
+                    straight.update(id(argument) for argument in node.args)
+            for node in ast.walk(tree):
+                self.assertNotIsInstance(node, ast.Set, name)
+                if isinstance(node, ast.Call) and isinstance(node.func, ast.Name) and node.func.id == "set":
+                    self.assertIn(id(node), straight, (name, node.lineno))
+
+    def test_assignments_and_comprehensions_are_plain(self):
+        for at, node in parts():
+            if isinstance(node, ast.Assign):
+                self.assertEqual(1, len(node.targets), at)
+                self.assertNotIsInstance(node.targets[0], (ast.Tuple, ast.List), at)
+            elif isinstance(node, ast.ListComp):
+                self.assertEqual(1, len(node.generators), at)
+                self.assertLessEqual(len(node.generators[0].ifs), 1, at)
+
     def test_forms_that_are_not_used(self):
         for at, node in parts():
             self.assertNotIsInstance(node, OUT_FORMS, at)

@@ -4,39 +4,9 @@ import unittest
 from asking import Asking, Strange, all_rows, no_wholes
 from figuretell.errors import NoFigures
 from figuretell.machines import is_machine, is_steady, room, sign_at, sign_down, told
-
-# 1 where the count of ones is odd; steady.
-ODD_ONES = (2, ((0, 1), (1, 0)), (0, 1))
-# The rest by three, of a number read from the top; not steady, read from the bottom.
-REST_OF_THREE = (2, ((0, 1), (2, 0), (1, 2)), (0, 1, 2))
-# The sign of the first figure, of three, and one for no figure at all.
-FIRST_FIGURE = (3, ((1, 2, 3), (1, 1, 1), (2, 2, 2), (3, 3, 3)), (9, 0, 1, 999999))
-ONE_ROOM = (10, ((0,) * 10,), (7,))
-ONE_FIGURE = (1, ((1,), (2,), (1,)), (5, 6, 6))
-WIDEST = (1000, ((1,) * 999 + (0,), (0,) + (1,) * 999), (3, 4))
-ALL = (ODD_ONES, REST_OF_THREE, FIRST_FIGURE, ONE_ROOM, ONE_FIGURE, WIDEST)
-
-
-def small_machines(wide, rooms, signs):
-    rows = tuple(itertools.product(range(rooms), repeat=wide))
-    for some_rows in itertools.product(rows, repeat=rooms):
-        for some_signs in itertools.product(range(signs), repeat=rooms):
-            yield (wide, some_rows, some_signs)
-
-
-def plain_room(machine, row, start):
-    places = [start]
-    for figure in row:
-        places.append(machine[1][places[-1]][figure])
-    return places[-1]
-
-
-def plain_figures(number, wide):
-    row = ()
-    while number > 0:
-        row += (number % wide,)
-        number //= wide
-    return row
+from samples import (
+    ALL, FIRST_FIGURE, ODD_ONES, ONE_FIGURE, ONE_ROOM, REST_OF_THREE, WIDEST, plain_figures, plain_room, small_machines,
+)
 
 
 class IsMachineTest(unittest.TestCase):
