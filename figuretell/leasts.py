@@ -4,14 +4,20 @@ from figuretell.machines import reached_rooms
 
 
 def leads(machine):
+    found = first_rows(machine, 0)
+    return tuple([found.get(here) for here in range(len(machine[1]))])
+
+
+def first_rows(machine, start):
+    """A dict of the rooms to which rows lead from the start, in the order of the first rows that do, and these."""
     rows = machine[1]
-    found = {0: ()}
-    # A room's lead is found before its turn comes, since the rooms come in the order of their leads.
-    for here in reached_rooms(machine):
+    found = {start: ()}
+    # A room's row is found before its turn comes, since the rooms come in the order of these rows.
+    for here in reached_rooms(machine, start):
         for figure, there in enumerate(rows[here]):
             if there not in found:
                 found[there] = found[here] + (figure,)
-    return tuple([found.get(here) for here in range(len(rows))])
+    return found
 
 
 def parting(machine, one, other):

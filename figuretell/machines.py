@@ -55,11 +55,11 @@ def is_steady(machine):
     return all([signs[rows[here][0]] == signs[here] for here in reached_rooms(machine)])
 
 
-def reached_rooms(machine):
+def reached_rooms(machine, start=0):
     # Level by level, by the lower figures first: so the rooms stand in the order of the first rows that lead there.
     rows = machine[1]
-    reached = {0: True}
-    level = [0]
+    reached = {start: True}
+    level = [start]
     while level:
         fresh = []
         for here in level:
@@ -69,3 +69,34 @@ def reached_rooms(machine):
                     fresh.append(there)
         level = fresh
     return list(reached)
+
+
+def rooms_with(machine, sign):
+    return [here for here, other in enumerate(machine[2]) if other == sign]
+
+
+def rooms_leading_to(machine, goals, taken):
+    """The rooms from which a row, perhaps (), of the figures taken leads to one of the goals, as the keys of a dict."""
+    back = {}
+    for here, row in enumerate(machine[1]):
+        for figure in taken:
+            back.setdefault(row[figure], []).append(here)
+    waiting = list(goals)
+    leading = dict([(here, True) for here in waiting])
+    while waiting:
+        here = waiting.pop()
+        for there in back.get(here, ()):
+            if there not in leading:
+                leading[there] = True
+                waiting.append(there)
+    return leading
+
+
+def goals_along(machine, row, sign):
+    """For each place of the row, and its end: whether, room by room, what stands from there on leads to the sign."""
+    goal = [other == sign for other in machine[2]]
+    goals = [goal]
+    for figure in reversed(row):
+        goal = [goal[leading[figure]] for leading in machine[1]]
+        goals.append(goal)
+    return goals[::-1]

@@ -2,6 +2,7 @@
 
 from figuretell.errors import TooGreat
 from figuretell.figures import power_of
+from figuretell.machines import rooms_leading_to, rooms_with
 
 
 class Walk:
@@ -78,7 +79,7 @@ class Choosing(Walk):
         self.rows = machine[1]
         self.base = base
         self.below = power_of(base, at)
-        self.winning = winning_rooms(machine, parts_alone(base, self.below))
+        self.winning = rooms_leading_to(machine, rooms_with(machine, 1), parts_alone(base, self.below))
 
     def begin(self):
         return (0,)
@@ -107,23 +108,6 @@ def with_part(figure, base, below, part):
 
 def parts_alone(base, below):
     return [below * part for part in range(base)]
-
-
-def winning_rooms(machine, figures_taken):
-    """The rooms from which a row of such figures leads to a room with the sign 1, as the keys of a dict."""
-    back = {}
-    for here, row in enumerate(machine[1]):
-        for figure in figures_taken:
-            back.setdefault(row[figure], []).append(here)
-    waiting = [here for here, sign in enumerate(machine[2]) if sign == 1]
-    winning = dict([(here, True) for here in waiting])
-    while waiting:
-        here = waiting.pop()
-        for there in back.get(here, ()):
-            if there not in winning:
-                winning[there] = True
-                waiting.append(there)
-    return winning
 
 
 def grown(walk, wide, most=200):
