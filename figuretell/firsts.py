@@ -1,4 +1,4 @@
-"""The first number that has a sign, of one number and of one beside others."""
+"""The first number that has a sign, the first one that fits beside others, and the first row of numbers."""
 
 from figuretell.figures import apart, figures, joint, number_of, power_of
 from figuretell.machines import goals_along, rooms_leading_to, rooms_with
@@ -19,6 +19,14 @@ def fitting(machine, base, many, at, others):
     ground = figures(joint(numbers, base), wide)
     row = least_row(machine, 1, ground, lambda figure: [figure + part for part in parts])
     return None if row is None else apart(number_of(row, wide), base, many)[at]
+
+
+def least_numbers(machine, base, many):
+    """The row of many numbers with the sign 1 whose joint number is least; None where there is none."""
+    if many == 0:
+        return () if machine[2][0] == 1 else None
+    number = first_number(machine)
+    return None if number is None else apart(number, base, many)
 
 
 def least_row(machine, sign, ground, free_for):

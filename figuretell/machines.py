@@ -1,6 +1,6 @@
 """Machines, tuples (wide, rows, signs), that read rows of figures and tell signs."""
 
-from figuretell.figures import figures, is_whole_within
+from figuretell.figures import figures, is_whole_within, joint
 
 MOST_WIDE = 1000
 MOST_SIGN = 999999
@@ -46,6 +46,12 @@ def sign_at(machine, number):
 
 def sign_down(machine, number):
     return told(machine, figures(number, machine[0])[::-1])
+
+
+def sign_at_all(machine, base, numbers):
+    """The sign of a machine of several numbers in a base at a row of these."""
+    # With no numbers the wide is 1, in which a number has no figures.
+    return sign_at(machine, joint(numbers, base)) if numbers else machine[2][0]
 
 
 def is_steady(machine):

@@ -3,6 +3,23 @@
 COMPARING = ("=", "<=", "<")
 JOINING = ("and", "or")
 CHOOSING = ("some", "all")
+WORDS = ("and", "or", "not", "some", "all")
+MOST_LONG = 6
+
+
+def is_name(thing):
+    return is_text_of(thing, "a", "z") and thing not in WORDS
+
+
+def is_row_name(thing):
+    return is_text_of(thing, "A", "Z")
+
+
+def is_text_of(thing, first, last):
+    """Whether the thing is a text of one to six letters from the first to the last one."""
+    if not isinstance(thing, str) or not 1 <= len(thing) <= MOST_LONG:
+        return False
+    return all([first <= letter <= last for letter in thing])
 
 
 def free(statement):

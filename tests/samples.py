@@ -111,6 +111,16 @@ def joint_figures(numbers, base):
     return tuple(figure_of(parts, base) for parts in zip(*[filled(row, long) for row in rows]))
 
 
+def row_of(number, base, many):
+    """The row of many numbers whose joint number it is."""
+    figures = [parts_of(figure, base, many) for figure in plain_figures(number, base ** many)]
+    return tuple(sum(parts[at] * base ** place for place, parts in enumerate(figures)) for at in range(many))
+
+
+def joint_of(numbers, base):
+    return sum(figure * base ** (len(numbers) * at) for at, figure in enumerate(joint_figures(numbers, base)))
+
+
 def places_reached(begin, step, wide):
     """All the places to which rows of figures lead."""
     reached = {begin}

@@ -4,18 +4,26 @@ import copy
 import itertools
 import unittest
 
+from figuretell.book import Book
 from figuretell.counts import count_below, ways
 from figuretell.ends import endless, last_number
 from figuretell.errors import FigureError
 from figuretell.firsts import first_number, fitting
 from figuretell.leasts import leads, least, parting
+from figuretell.makes import differ, machine_of
 from figuretell.pieces import changed, paired, some, widened
+from figuretell.reader import read
 from figuretell.statements import depth, free, rows_of, shown
+from figuretell.sums import Looking, Meeting, Within
 from figuretell.turns import grown_row, lowered, raised, turned
 from figuretell.walks import Choosing, Narrowing, Pairing, Reading, Walk, grown
+from meant import rows_for
 from samples import ODD_ONES, REST_OF_THREE, TWICE, steady_machines
 
 X = ((1, "x"),)
+TEXTS = ("x < y", "T[x] = T[x + 1]", "some y: (x = 3*y and R[y] = 1)", "all y: (y < x or S[y] = 0)", "Q[x] = 1", "x =",
+         "(T[x] = 1 or S[x] = 3)", "1 = 1", "a + b + c + d + e = f + g + h + i + j", "x < 999999",
+         "some y: x + 1 = 2*y")
 
 
 def mixed(one, other):
@@ -33,8 +41,20 @@ def questions(machine):
         (lowered, machine, 2, 2), (grown_row, ((0, 1), (1, 0)), machine[2], 20), (first_number, machine),
         (first_number, machine, 2, 10 ** 20), (fitting, machine, 2, 2, 0, (5,)),
         (fitting, machine, 2, 2, 1, [10 ** 20]), (ways, machine, 20), (count_below, machine, 10 ** 20),
-        (count_below, machine, 99, 2), (last_number, machine), (last_number, machine, 2), (endless, machine), (endless, machine, 2), (endless, machine, 0),
+        (count_below, machine, 99, 2), (last_number, machine), (last_number, machine, 2), (endless, machine),
+        (endless, machine, 2), (endless, machine, 0),
     ]
+
+
+def questions_of_book(book, numbers):
+    asked = [(book.kept,)]
+    for text in TEXTS:
+        asked.extend([(book.made, text), (book.holds, text), (book.holds, text, numbers), (book.least_of, text),
+                      (book.witness, text, numbers), (book.count_of, text, 100), (book.last_of, text)])
+        asked.extend([(book.differ, text, "T[x] = 1"), (book.differ, "x < 5", text)])
+    for name in ("T", "R", "S", "Q", None):
+        asked.extend([(book.sign, name, 12), (book.sign, name, 10 ** 18), (book.sign, name, -1)])
+    return asked
 
 
 def answer(question):
@@ -100,6 +120,66 @@ class LeftAloneTest(unittest.TestCase):
         self.assertEqual(before, grown(first, 2))
         choosing = [Choosing(TWICE, 2, 0), Choosing(TWICE, 2, 1)]
         self.assertEqual([(0, 1), (0, 2), (0, 1)], [walk.step((0,), 0) for walk in choosing + choosing[:1]])
+
+    def test_statements_and_rows_asked_for_machines_stay_as_they_are(self):
+        rows = rows_for(2)
+        statements = [read(text) for text in TEXTS if text != "x ="]
+        before = copy.deepcopy((rows, statements))
+        first = []
+        for one, other in itertools.product(statements, repeat=2):
+            first.append((answer((machine_of, one, 2, rows)), answer((differ, one, other, 2, rows, 50))))
+            self.assertEqual(before, (rows, statements))
+        again = []
+        for one, other in itertools.product(statements, repeat=2):
+            answer((machine_of, other, 3, rows_for(3)))
+            again.append((answer((machine_of, one, 2, rows)), answer((differ, one, other, 2, rows, 50))))
+        self.assertEqual(first, again)
+        rows["T"] = rows["R"]
+        self.assertNotEqual(first[len(statements)][0], machine_of(statements[1], 2, rows))
+        self.assertEqual(first[len(statements)][0], machine_of(statements[1], 2, rows_for(2)))
+
+    def test_walks_of_sums_stay_as_they_are(self):
+        for walk in (Meeting([1, -2], 5, 2), Within((1, -2), -5, 2), Looking(ODD_ONES, [1, 2], 5, 2)):
+            before = copy.deepcopy(vars(walk))
+            answers = [answer((grown, walk, 4)), answer((grown, walk, 4, 1)), answer((grown, walk, 4))]
+            self.assertEqual(answers[0], answers[2])
+            self.assertEqual(before, vars(walk))
+
+    def test_books_asked_again_after_others_were_asked(self):
+        numbers = {"x": 12, "y": 40, "z": -1}
+        books = [Book(2), Book(2, 30), Book(10), Book(3, 5)]
+        for book in books:
+            for name in ("T", "R", "S"):
+                book.keep(name, rows_for(book.base)[name])
+        before = [[answer(question) for question in questions_of_book(book, numbers)] for book in books]
+        self.assertEqual(4, len({repr(answers) for answers in before}))
+        other = Book(2)
+        other.grow("T", ((0, 1), (0, 0)), (0, 1))
+        for book in reversed(books):
+            for question in reversed(questions_of_book(book, numbers)):
+                answer(question)
+                answer((other.holds, "T[5] = T[6]"))
+        other.drop("T")
+        after = [[answer(question) for question in questions_of_book(book, numbers)] for book in books]
+        self.assertEqual(before, after)
+        self.assertEqual({"x": 12, "y": 40, "z": -1}, numbers)
+
+    def test_what_was_handed_to_a_book_may_change_afterwards(self):
+        book = Book(2)
+        rows = rows_for(2)
+        for name, machine in rows.items():
+            book.keep(name, machine)
+        numbers = {"x": 12, "y": 40}
+        before = [answer(question) for question in questions_of_book(book, dict(numbers))]
+        self.assertIs(True, book.holds("x < y", numbers))
+        rows["T"] = TWICE
+        rows.pop("R")
+        numbers["x"] = 50
+        self.assertIs(False, book.holds("x < y", numbers))
+        self.assertEqual(before, [answer(question) for question in questions_of_book(book, {"x": 12, "y": 40})])
+        names = list(book.kept())
+        names.append("Q")
+        self.assertEqual(("B", "P", "R", "S", "T"), book.kept())
 
 
 if __name__ == "__main__":
