@@ -2,7 +2,8 @@
 
 from figuretell.makes import machine_of
 from known import below_by, plain_sign, powers_of, rest_by, signs_at
-from samples import chosen_rooms, figure_of, joint_figures, numbers_below, parts_of, places_reached, plain_told
+from samples import (
+    chosen_rooms, figure_of, joint_figures, numbers_below, parts_of, places_reached, plain_told, plain_weight)
 from sayings import not_taken
 
 BASES = range(2, 11)
@@ -114,10 +115,6 @@ def numbers_to_try(many, seed=7):
 
 def factors_in(added, names):
     return [sum(factor for factor, other in added if other == name) for name in names]
-
-
-def plain_weight(factors, base, figure):
-    return sum(factor * part for factor, part in zip(factors, parts_of(figure, base, len(factors))))
 
 
 def looked_at(machine, added, names, base):

@@ -157,3 +157,20 @@ def apart_at(machine, longest):
                     fresh.append((one, other))
         found.update((pair, long) for pair in fresh)
     return found
+
+
+def unlike_rooms(machine):
+    """How many rooms there are no two of which tell the same of all rows: split by where their figures lead."""
+    wide, rows, signs = machine
+    groups = list(signs)
+    many = 0
+    while len(set(groups)) > many:
+        many = len(set(groups))
+        told = [(groups[here],) + tuple(groups[there] for there in row) for here, row in enumerate(rows)]
+        numbers = {one: number for number, one in enumerate(sorted(set(told)))}
+        groups = [numbers[one] for one in told]
+    return many
+
+
+def plain_weight(factors, base, figure):
+    return sum(factor * part for factor, part in zip(factors, parts_of(figure, base, len(factors))))

@@ -276,6 +276,21 @@ class AskedTest(Asking, unittest.TestCase):
                 self.assertEqual(expected, answer, text)
                 self.assertIs(type(expected), type(answer))
 
+    def test_last_of_by_what_the_statement_says(self):
+        texts = ("(x < 50 and R[x] = 2)", "(S[x] = 3 or x = 7)", "(T[x] = T[x + 1] and B[2*x] = 1)", "9*x < 400 + x",
+                 "some y: (x + 3*y = 40 and T[y] = 1)", "all y: (x < y + 30 or y < 3)", "(x < 10 and 20 < x)",
+                 "(R[x] = 1 and 20 < x)", "not P[x + 5] = 0")
+        for base, text in itertools.product((2, 3, 10), texts):
+            book = book_with_rows(base)
+            answer = book.last_of(text)
+            so = [number for number in range(200) if is_so(read(text), {"x": number}, rows_for(base), 60)]
+            if answer is None:
+                # There is one more above each number, as the book tells itself.
+                self.assertTrue(book.holds("all z: some x: (z < x and " + text + ")"))
+                self.assertGreater(len(so), 0)
+            else:
+                self.assertEqual(max(so, default=-1), answer)
+
     def test_differ(self):
         for base in (2, 10):
             book = book_with_rows(base, 1000)

@@ -6,7 +6,7 @@ from figuretell.makes import machine_of
 from figuretell.reader import read
 from figuretell.statements import free
 from meant import BASES, SAYS, names_in, needed, numbers_to_try, read_at, rows_for, says
-from samples import numbers_below
+from samples import numbers_below, unlike_rooms
 from sayings import is_so, small_plain, small_statement, worth
 
 NOT_TOO_GREAT = 1000000
@@ -38,8 +38,7 @@ class MachineOfTest(Asking, unittest.TestCase):
         self.in_lead_order(machine)
         for here, sign in enumerate(machine[2]):
             self.assertEqual(sign, machine[2][machine[1][here][0]])
-        if len(machine[1]) <= 30:
-            self.is_least(base ** len(names), machine)
+        self.assertEqual(len(machine[1]), unlike_rooms(machine))
         return machine
 
     def test_statements_with_some_and_all_in_each_base(self):

@@ -7,16 +7,12 @@ from asking import Asking
 from figuretell.sums import Looking, Meeting, Weighing, Within
 from figuretell.walks import Narrowing, Pairing, Walk, grown
 from known import plain_sign, powers_of, rest_by, signs_at
-from samples import TWICE, joint_figures, numbers_below, parts_of, plain_figures, plain_room, steady_machines
+from samples import TWICE, joint_figures, numbers_below, plain_figures, plain_room, plain_weight, steady_machines
 
 FACTORS = ((), (0,), (1,), (-1,), (20,), (1, 1), (1, -1), (2, -3), (0, 7), (-20, 0), (3, 1, -2), (-1, -1, -1),
            (0, 0, 0), (160, -160, 1))
 NO_MINUS = tuple(factors for factors in FACTORS if min(factors, default=0) >= 0) + ((2, 5), (1, 0, 20))
 GOALS = (0, 1, -1, 2, 7, -7, 100, -100, 999999, -999999)
-
-
-def plain_weight(factors, base, figure):
-    return sum(factor * part for factor, part in zip(factors, parts_of(figure, base, len(factors))))
 
 
 def some_figures(base, many):
